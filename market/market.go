@@ -6,9 +6,6 @@ import "market/api"
 // Market has accounts, batches and a log.
 type Market struct{}
 
-// McAfee clears a batch by trade reduction: what each order gets, what buyers pay, what sellers get (P6).
-func McAfee(orders []api.Order) ([]int, int, int, api.Errno) { return nil, 0, 0, api.OK }
-
 // New makes a market in which nothing is (P7).
 func New() *Market { return nil }
 

@@ -1,8 +1,6 @@
 package market_test
 
 import (
-	"fmt"
-	"math"
 	"reflect"
 	"sort"
 	"strings"
@@ -11,22 +9,6 @@ import (
 	"market/api"
 	"market/market"
 )
-
-// batch reads orders: B or S, a price, x, a quantity.
-func batch(t *testing.T, text string) []api.Order {
-	t.Helper()
-	orders := []api.Order{}
-	for _, word := range strings.Fields(text) {
-		var o api.Order
-		var side rune
-		if _, err := fmt.Sscanf(word, "%c%dx%d", &side, &o.Price, &o.Qty); err != nil {
-			t.Fatalf("%q is no order: %v", word, err)
-		}
-		o.Sell = side == 'S'
-		orders = append(orders, o)
-	}
-	return orders
-}
 
 type clearing struct {
 	orders string
@@ -44,14 +26,6 @@ func checkClearings(t *testing.T, rows []clearing) {
 	}
 }
 
-func checkRefused(t *testing.T, what string, orders []api.Order) {
-	t.Helper()
-	gets, price, errno := market.Uniform(orders)
-	if gets != nil || price != 0 || errno != api.ErrOrders {
-		t.Errorf("%s: Uniform = %v, %d, %d; want nil, 0, ErrOrders", what, gets, price, errno)
-	}
-}
-
 // The rows of Uniform under 'Examples'.
 func TestUniformExamples(t *testing.T) {
 	checkClearings(t, []clearing{
@@ -65,23 +39,12 @@ func TestUniformExamples(t *testing.T) {
 		{"S50x7 S50x2 S50x2 B50x6", []int{4, 1, 1, 6}, 50},
 		{"B60x10 B50x5 B40x3 S45x12", []int{8, 4, 0, 12}, 45},
 	})
-	checkRefused(t, "B50x0", batch(t, "B50x0"))
+	checkRefused(t, uniform, "B50x0", batch(t, "B50x0"))
 }
 
-// P1, P3: what is no batch is refused, and then all else is nil or 0.
+// P1, P3: what is no batch is refused.
 func TestUniformRefusesWrongOrders(t *testing.T) {
-	good := "B60x3 S40x3"
-	for _, bad := range []string{"B0x1", "S0x1", "B-1x1", "S-50x1", "B100x1", "S100x1", "B50x0", "S50x0", "B50x-1", "S50x-20", "B50x21", "S50x21", "B0x0"} {
-		checkRefused(t, bad, batch(t, bad))
-		checkRefused(t, bad+" first", batch(t, bad+" "+good))
-		checkRefused(t, bad+" last", batch(t, good+" "+bad))
-	}
-	for _, n := range []int{math.MinInt, math.MaxInt, math.MinInt32, math.MaxInt32, 256 + 50, 1<<32 + 1} {
-		for _, sell := range []bool{false, true} {
-			checkRefused(t, fmt.Sprint("price ", n), []api.Order{{Sell: sell, Price: n, Qty: 1}})
-			checkRefused(t, fmt.Sprint("quantity ", n), []api.Order{{Sell: sell, Price: 50, Qty: n}})
-		}
-	}
+	checkRefusesWrongOrders(t, uniform)
 }
 
 // P3: a batch has MaxOrders orders at most.
@@ -89,10 +52,7 @@ func TestUniformCountsOrders(t *testing.T) {
 	checkClearings(t, []clearing{
 		{strings.Repeat("B50x1 S50x1 ", 6), []int{1, 1, 1, 1, 1, 1, 1, 1, 1, 1, 1, 1}, 50},
 	})
-	checkRefused(t, "13 orders", batch(t, strings.Repeat("B50x1 S50x1 ", 6)+"S50x1"))
-	checkRefused(t, "13 to buy", batch(t, strings.Repeat("B50x1 ", 13)))
-	checkRefused(t, "100000 orders", batch(t, strings.Repeat("B50x1 S50x1 ", 50000)))
-	checkRefused(t, "100000 empty ones", make([]api.Order, 100000))
+	checkRefusesManyOrders(t, uniform)
 }
 
 // P3: the price, at the edges of what orders may ask and where levels are equally good.
@@ -164,39 +124,11 @@ func TestUniformShares(t *testing.T) {
 	})
 }
 
-// P2: neither the orders nor the spare room behind them are written into.
+// P2: nothing that is handed in is written into or kept.
 func TestUniformLeavesOrdersAlone(t *testing.T) {
-	for _, text := range []string{"", "B50x3 B50x2 S50x4", "B60x3 S40x3 B50x2", "B49x3 S50x3", "B50x3 S50x0", strings.Repeat("B50x1 ", 13)} {
-		orders := batch(t, text)
-		n := len(orders)
-		room := append(append([]api.Order{}, orders...), batch(t, "S7x7 B8x8 S9x9")...)
-		before := append([]api.Order{}, room...)
-		market.Uniform(room[:n])
-		if !reflect.DeepEqual(room, before) {
-			t.Errorf("Uniform(%s) left %v of %v", text, room, before)
-		}
-	}
-}
-
-// P2: nothing is kept: lists are fresh, and a call's answer hangs on its own orders.
-func TestUniformKeepsNothing(t *testing.T) {
-	for _, text := range []string{"B50x3 B50x2 S50x4", "B49x3 S50x3"} {
-		orders := batch(t, text)
-		first, firstPrice, _ := market.Uniform(orders)
-		want := append([]int{}, first...)
-		for i := range first {
-			first[i] = 77
-		}
-		market.Uniform(batch(t, "S1x1 B99x20 B99x20"))
-		second, secondPrice, errno := market.Uniform(orders)
-		if !reflect.DeepEqual(second, want) || secondPrice != firstPrice || errno != api.OK {
-			t.Errorf("Uniform(%s) = %v, %d, %d; the first time %v, %d", text, second, secondPrice, errno, want, firstPrice)
-		}
-		orders[0] = api.Order{Sell: true, Price: 99, Qty: 1}
-		if !reflect.DeepEqual(second, want) {
-			t.Errorf("Uniform(%s): what came out changed with the orders", text)
-		}
-	}
+	texts := []string{"", "B50x3 B50x2 S50x4", "B60x3 S40x3 B50x2", "B49x3 S50x3", "B50x3 S50x0", strings.Repeat("B50x1 ", 13)}
+	checkLeavesOrdersAlone(t, uniform, texts)
+	checkKeepsNothing(t, uniform, []string{"B50x3 B50x2 S50x4", "B49x3 S50x3"})
 }
 
 // sum adds up the quantities of one side's orders that are willing at p.
@@ -309,18 +241,14 @@ func TestUniformSmallBatches(t *testing.T) {
 
 // P3 to P5: many greater batches, of numbers that a fixed rule gives.
 func TestUniformGreaterBatches(t *testing.T) {
-	state := uint32(1)
-	next := func(n int) int {
-		state = state*1664525 + 1013904223
-		return int(state>>8) % n
-	}
+	numbers := fixedNumbers{1}
 	for round := 0; round < 4000; round++ {
 		// Few prices and quantities make ties, many make uneven shares.
-		prices := []int{1, 3, 10, api.MaxPrice}[next(4)]
-		qtys := []int{1, 3, api.MaxQty}[next(3)]
-		orders := make([]api.Order, next(api.MaxOrders+1))
+		prices := []int{1, 3, 10, api.MaxPrice}[numbers.next(4)]
+		qtys := []int{1, 3, api.MaxQty}[numbers.next(3)]
+		orders := make([]api.Order, numbers.next(api.MaxOrders+1))
 		for i := range orders {
-			orders[i] = api.Order{Sell: next(2) == 1, Price: 1 + next(prices), Qty: 1 + next(qtys)}
+			orders[i] = api.Order{Sell: numbers.next(2) == 1, Price: 1 + numbers.next(prices), Qty: 1 + numbers.next(qtys)}
 		}
 		checkAgainstPlain(t, orders)
 	}
