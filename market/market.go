@@ -4,19 +4,78 @@ package market
 import "market/api"
 
 // Market has accounts, batches and a log.
-type Market struct{}
+//
+// With all of it 0 it is a new market.
+type Market struct {
+	accounts [api.Clients]account
+	house    int
+	voyages  [api.Voyages]voyage
+	replies  [api.Clients]reply
+}
+
+// reply is what a client's last request was answered: a repeated request is
+// answered the same, and not done again.
+type reply struct {
+	request int
+	answer  string
+	errno   api.Errno
+}
 
 // New makes a market in which nothing is (P7).
-func New() *Market { return nil }
+func New() *Market { return &Market{} }
 
 // Do takes a command and answers it (P8 to P15).
-func (m *Market) Do(command string) (string, api.Errno) { return "", api.OK }
+func (m *Market) Do(command string) (string, api.Errno) {
+	r, isCommand := readRequest(command)
+	if !isCommand {
+		return "", api.ErrForm
+	}
+	last := m.replies[r.client]
+	if r.number == last.request {
+		return last.answer, last.errno
+	}
+	if r.number < last.request {
+		return "", api.ErrOld
+	}
+	if r.number > last.request+1 {
+		return "", api.ErrGap
+	}
+	answer, errno := m.carryOut(r)
+	m.replies[r.client] = reply{request: r.number, answer: answer, errno: errno}
+	return answer, errno
+}
+
+// carryOut does what the request's word says.
+func (m *Market) carryOut(r request) (string, api.Errno) {
+	switch r.word {
+	case "pay":
+		return "", m.pay(r)
+	case "draw":
+		return "", m.draw(r)
+	case "bring":
+		return "", m.bring(r)
+	case "fetch":
+		return "", m.fetch(r)
+	case "buy":
+		return m.place(r, false)
+	case "sell":
+		return m.place(r, true)
+	case "drop":
+		return "", m.drop(r)
+	case "mode":
+		return "", m.setMode(r)
+	}
+	// What is left is close, which does nothing yet.
+	return "", api.OK
+}
 
 // Last tells the number of a client's last request (P9).
-func (m *Market) Last(client int) int { return 0 }
-
-// Show writes accounts, house and batches (P7).
-func (m *Market) Show() string { return "" }
+func (m *Market) Last(client int) int {
+	if client < 0 || client >= api.Clients {
+		return 0
+	}
+	return m.replies[client].request
+}
 
 // Log writes what was done (P16).
 func (m *Market) Log() string { return "" }
