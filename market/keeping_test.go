@@ -12,7 +12,7 @@ import (
 var someCommands = []string{
 	"0 1 pay 1000", "1 1 bring 0 20", "1 2 bring 1 30", "0 2 buy 0 50 5", "1 3 sell 0 40 3", "0 3 draw 751", "2 1 mode 1 m",
 	"1 4 sell 1 9 1", "1 5 sell 1 8 1", "0 4 buy 0 1 2", "0 5 drop 0 0", "3 1 drop 0 2", "3 2 pay 9999", "2 2 mode 0 m", "1 6 fetch 1 4",
-	"0 6 sell", "0 9 pay 1", "0 1 pay 1",
+	"0 6 buy 0 45 2", "2 3 close 0", "1 7 close 1", "0 7 buy 0 9 1", "2 4 close 0", "0 8 sell", "0 10 pay 1", "0 1 pay 1",
 }
 
 // TestMarketKeepsNoCommand writes over each command's bytes when it is done: neither what is shown,

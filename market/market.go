@@ -65,8 +65,8 @@ func (m *Market) carryOut(r request) (string, api.Errno) {
 	case "mode":
 		return "", m.setMode(r)
 	}
-	// What is left is close, which does nothing yet.
-	return "", api.OK
+	// What is left is close.
+	return m.closeBatch(r)
 }
 
 // Last tells the number of a client's last request (P9).

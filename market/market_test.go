@@ -112,17 +112,39 @@ func TestShowWritesEachPartInItsPlace(t *testing.T) {
 	checkShow(t, m, "234+1000 11+0 12+0;77+0 20+1 22+0;201+99 22+9 0+0;5+0 0+0 41+1;0;u0B0@50x20,1S1@99x1,2S2@1x9;m0S3@7x1,1B2@99x1")
 }
 
-func TestMarketOfTheDocumentAsFarAsToItsClose(t *testing.T) {
+func TestFirstMarketOfTheDocument(t *testing.T) {
 	m := market.New()
 	play(t, m, []step{
 		{"0 1 pay 1000", "", api.OK},
 		{"1 1 bring 0 20", "", api.OK},
 		{"2 1 pay 500", "", api.OK},
-		{"0 2 buy 0 50 5", "0", api.OK},
+		{"0 2 close 0", "0", api.OK},
+		{"0 3 buy 0 50 5", "0", api.OK},
 		{"1 2 sell 0 40 3", "1", api.OK},
 		{"2 2 buy 0 45 4", "2", api.OK},
 	})
 	checkShow(t, m, "750+250 0+0 0+0;0+0 17+3 0+0;320+180 0+0 0+0;"+emptyAccount+";0;u0B0@50x5,1S1@40x3,2B2@45x4;u")
+	play(t, m, []step{{"2 3 close 0", "3@46/46", api.OK}})
+	checkShow(t, m, "862+0 3+0 0+0;138+0 17+0 0+0;500+0 0+0 0+0;0+0 0+0 0+0;0;u;u")
+}
+
+func TestSecondMarketOfTheDocument(t *testing.T) {
+	m := market.New()
+	play(t, m, []step{
+		{"0 1 pay 100", "", api.OK},
+		{"1 1 bring 0 5", "", api.OK},
+		{"0 2 buy 0 20 2", "0", api.OK},
+		{"1 2 sell 0 10 2", "1", api.OK},
+		{"2 1 close 0", "2@10/10", api.OK},
+		{"2 1 close 0", "2@10/10", api.OK},
+		{"2 1 pay 7", "2@10/10", api.OK},
+	})
+	checkShow(t, m, "80+0 2+0 0+0;20+0 3+0 0+0;0+0 0+0 0+0;0+0 0+0 0+0;0;u;u")
+	play(t, m, []step{
+		{"2 2 close 0", "0", api.OK},
+		{"2 1 close 0", "", api.ErrOld},
+	})
+	checkShow(t, m, "80+0 2+0 0+0;20+0 3+0 0+0;0+0 0+0 0+0;0+0 0+0 0+0;0;u;u")
 }
 
 func TestThirdMarketOfTheDocument(t *testing.T) {
@@ -233,23 +255,4 @@ func TestLastOfNoClientIsNought(t *testing.T) {
 			t.Errorf("Last(%d) = %d; want 0", c, got)
 		}
 	}
-}
-
-func TestCloseIsARequestLikeOthers(t *testing.T) {
-	m := market.New()
-	for i, command := range []string{"2 1 close 0", "2 2 close 1"} {
-		answer, errno := m.Do(command)
-		if errno != api.OK || m.Last(2) != i+1 {
-			t.Errorf("Do(%q) = %q, %d, and Last(2) = %d", command, answer, errno, m.Last(2))
-		}
-		if again, errno := m.Do(command); again != answer || errno != api.OK {
-			t.Errorf("Do(%q) again = %q, %d; the first time %q", command, again, errno, answer)
-		}
-	}
-	checkShow(t, m, emptyMarket)
-	play(t, m, []step{
-		{"2 1 close 0", "", api.ErrOld},
-		{"2 4 close 0", "", api.ErrGap},
-		{"2 3 close 2", "", api.ErrForm},
-	})
 }

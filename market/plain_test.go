@@ -9,10 +9,10 @@ import (
 	"market/market"
 )
 
-// plainMarket is a second reading of P7 to P13, without close. Names of what is held or free are
-// like "0 cash", "1 slots 0".
+// plainMarket is a second reading of P7 to P15. Names of what is held or free are like "0 cash", "1 slots 0".
 type plainMarket struct {
 	free, held map[string]int
+	house      int
 	orders     map[int][]plainOrder
 	came       map[int]int
 	mode       map[int]string
@@ -77,6 +77,8 @@ func (p *plainMarket) obey(client int, word string, rest []string) (string, api.
 		return p.place(n[0], plainOrder{client: client, price: n[1], qty: n[2], side: "S", pot: slots, needs: n[2]})
 	case "drop":
 		return "", p.drop(client, n[0], n[1])
+	case "close":
+		return p.close(n[0]), api.OK
 	}
 	if len(p.orders[n[0]]) > 0 {
 		return "", api.ErrBusy
@@ -87,6 +89,9 @@ func (p *plainMarket) obey(client int, word string, rest []string) (string, api.
 
 func (p *plainMarket) grow(pot string, n int, kind string, most int) api.Errno {
 	all := n
+	if kind == "cash" {
+		all += p.house
+	}
 	for c := range api.Clients {
 		each := fmt.Sprint(c, " ", kind)
 		all += p.free[each] + p.held[each]
@@ -141,6 +146,42 @@ func (p *plainMarket) drop(client, voyage, number int) api.Errno {
 	return api.ErrOrder
 }
 
+func (p *plainMarket) close(voyage int) string {
+	var orders []api.Order
+	for _, o := range p.orders[voyage] {
+		orders = append(orders, api.Order{Sell: o.side == "S", Price: o.price, Qty: o.qty})
+	}
+	var gets []int
+	var pay, get int
+	if p.mode[voyage] == "u" {
+		gets, pay = plainUniform(orders)
+		get = pay
+	} else {
+		gets, pay, get = plainMcAfee(orders)
+	}
+	bought, paid, got := 0, 0, 0
+	for i, o := range p.orders[voyage] {
+		cash, slots := fmt.Sprint(o.client, " cash"), fmt.Sprint(o.client, " slots ", voyage)
+		p.held[o.pot] -= o.needs
+		if o.side == "B" {
+			bought += gets[i]
+			paid += gets[i] * pay
+			p.free[cash] += o.needs - gets[i]*pay
+			p.free[slots] += gets[i]
+		} else {
+			got += gets[i] * get
+			p.free[slots] += o.needs - gets[i]
+			p.free[cash] += gets[i] * get
+		}
+	}
+	p.house += paid - got
+	p.orders[voyage], p.came[voyage] = nil, 0
+	if bought == 0 {
+		return "0"
+	}
+	return fmt.Sprintf("%d@%d/%d", bought, pay, get)
+}
+
 func (p *plainMarket) show() string {
 	var parts []string
 	for c := range api.Clients {
@@ -151,7 +192,7 @@ func (p *plainMarket) show() string {
 		}
 		parts = append(parts, strings.Join(pots, " "))
 	}
-	parts = append(parts, "0")
+	parts = append(parts, fmt.Sprint(p.house))
 	for v := range api.Voyages {
 		var orders []string
 		for _, o := range p.orders[v] {
@@ -162,8 +203,9 @@ func (p *plainMarket) show() string {
 	return strings.Join(parts, ";")
 }
 
-// someCommand makes a command that is mostly the client's next request, and mostly one that can be done.
-func someCommand(numbers *fixedNumbers, last map[int]int) string {
+// someCommand makes a command that is mostly the client's next request, and mostly one that can be done. Of
+// so many tasks as closing says, one is a close; if it is 0, none is.
+func someCommand(numbers *fixedNumbers, last map[int]int, closing int) string {
 	client := numbers.next(api.Clients)
 	request := last[client] + 1
 	switch numbers.next(12) {
@@ -179,15 +221,23 @@ func someCommand(numbers *fixedNumbers, last map[int]int) string {
 	if numbers.next(60) == 0 {
 		voyage = 2
 	}
-	return fmt.Sprintf("%d %d %s", client, request, someTask(numbers, voyage))
+	task := someTask(numbers, voyage)
+	if closing > 0 && numbers.next(closing) == 0 {
+		task = fmt.Sprint("close ", voyage)
+	}
+	return fmt.Sprintf("%d %d %s", client, request, task)
 }
 
 func someTask(numbers *fixedNumbers, voyage int) string {
+	// Mostly prices on one side of 50, so that half of 0 and 100 fits no pair, and pairs of mode m are dropped.
 	price, qty := 1+numbers.next(30), 1+numbers.next(4)
-	if numbers.next(10) == 0 {
+	switch numbers.next(10) {
+	case 0:
 		price, qty = numbers.next(102), numbers.next(23)
+	case 1, 2, 3:
+		price, qty = 1+numbers.next(api.MaxPrice), 1
 	}
-	switch numbers.next(11) {
+	switch numbers.next(14) {
 	case 0:
 		return fmt.Sprint("pay ", numbers.next(300))
 	case 1:
@@ -200,42 +250,105 @@ func someTask(numbers *fixedNumbers, voyage int) string {
 		return fmt.Sprintf("bring %d %d", voyage, numbers.next(1010))
 	case 5:
 		return fmt.Sprintf("fetch %d %d", voyage, numbers.next(30))
-	case 6:
+	case 6, 7, 8:
 		return fmt.Sprintf("buy %d %d %d", voyage, price, qty)
-	case 7:
+	case 9, 10, 11:
 		return fmt.Sprintf("sell %d %d %d", voyage, price, qty)
-	case 8, 9:
+	case 12:
 		return fmt.Sprintf("drop %d %d", voyage, numbers.next(13))
 	}
 	return fmt.Sprintf("mode %d %c", voyage, "uuummmx"[numbers.next(7)])
 }
 
+// checkDo wants the command answered as the plain market does, and both markets to be the same behind it. It tells
+// the kind of the answer: how a close traded, or else the error.
+func checkDo(t *testing.T, m *market.Market, plain *plainMarket, command string) string {
+	t.Helper()
+	before := m.Show()
+	wantAnswer, wantErrno := plain.do(command)
+	answer, errno := m.Do(command)
+	if answer != wantAnswer || errno != wantErrno {
+		t.Fatalf("Do(%q) = %q, %d; want %q, %d; the market before: %s", command, answer, errno, wantAnswer, wantErrno, before)
+	}
+	checkShow(t, m, plain.show())
+	for c := range api.Clients {
+		if m.Last(c) != plain.last[c] {
+			t.Fatalf("Do(%q): Last(%d) = %d; want %d", command, c, m.Last(c), plain.last[c])
+		}
+	}
+	var slots, pay, get int
+	if n, _ := fmt.Sscanf(answer, "%d@%d/%d", &slots, &pay, &get); n < 3 {
+		return fmt.Sprint("error ", errno)
+	}
+	if pay > get {
+		return "trade with a gain of the house"
+	}
+	return "trade at one price"
+}
+
+// checkSeen wants at least 100 answers of each kind: fewer would tell too little.
+func checkSeen(t *testing.T, seen map[string]int, kinds []string) {
+	t.Helper()
+	for _, kind := range kinds {
+		if seen[kind] < 100 {
+			t.Errorf("%d answers of the kind %q: too few to tell", seen[kind], kind)
+		}
+	}
+}
+
 func TestMarketAgreesWithAPlainSecondReading(t *testing.T) {
 	numbers := fixedNumbers{1}
-	seen := map[api.Errno]int{}
-	for round := range 300 {
+	seen := map[string]int{}
+	for round := range 400 {
 		m, plain := market.New(), newPlainMarket()
+		closing := []int{0, 60, 20, 10}[round%4]
 		for range 300 {
-			command := someCommand(&numbers, plain.last)
-			wantAnswer, wantErrno := plain.do(command)
-			answer, errno := m.Do(command)
-			if answer != wantAnswer || errno != wantErrno {
-				t.Fatalf("round %d: Do(%q) = %q, %d; want %q, %d; the market: %s", round, command, answer, errno, wantAnswer, wantErrno, m.Show())
-			}
-			seen[errno]++
-			if got, want := m.Show(), plain.show(); got != want {
-				t.Fatalf("round %d: behind %q Show() = %s; want %s", round, command, got, want)
-			}
-			for c := range api.Clients {
-				if m.Last(c) != plain.last[c] {
-					t.Fatalf("round %d: behind %q Last(%d) = %d; want %d", round, command, c, m.Last(c), plain.last[c])
-				}
-			}
+			command := someCommand(&numbers, plain.last, closing)
+			seen[checkDo(t, m, plain, command)]++
 		}
 	}
+	kinds := []string{"trade at one price"}
 	for _, errno := range []api.Errno{api.OK, api.ErrForm, api.ErrOld, api.ErrGap, api.ErrFunds, api.ErrMax, api.ErrFull, api.ErrMode, api.ErrBusy, api.ErrOrder} {
-		if seen[errno] < 100 {
-			t.Errorf("%d commands were answered %d: too few to tell", seen[errno], errno)
+		kinds = append(kinds, fmt.Sprint("error ", errno))
+	}
+	checkSeen(t, seen, kinds)
+}
+
+// wealth is three requests of each client, by which all can buy and sell on both voyages.
+func wealth() []string {
+	var commands []string
+	for c := range api.Clients {
+		commands = append(commands, fmt.Sprint(c, " 1 pay 2000"), fmt.Sprint(c, " 2 bring 0 200"), fmt.Sprint(c, " 3 bring 1 200"))
+	}
+	return commands
+}
+
+// TestTradesAgreeWithAPlainSecondReading fills batches of both modes with orders that mostly trade, and closes them.
+func TestTradesAgreeWithAPlainSecondReading(t *testing.T) {
+	numbers := fixedNumbers{2}
+	seen := map[string]int{}
+	for round := range 200 {
+		m, plain := market.New(), newPlainMarket()
+		for _, command := range wealth() {
+			checkDo(t, m, plain, command)
+		}
+		most := api.MaxQty
+		if round%2 == 1 {
+			most = 1
+			checkDo(t, m, plain, "0 4 mode 0 m")
+			checkDo(t, m, plain, "0 5 mode 1 m")
+		}
+		for range 300 {
+			client, voyage, qty := numbers.next(api.Clients), numbers.next(api.Voyages), 1+numbers.next(most)
+			task := fmt.Sprintf("buy %d %d %d", voyage, 30+numbers.next(70), qty)
+			if client%2 == 1 != (numbers.next(10) == 0) {
+				task = fmt.Sprintf("sell %d %d %d", voyage, 1+numbers.next(70), qty)
+			}
+			if numbers.next(9) == 0 {
+				task = fmt.Sprint("close ", voyage)
+			}
+			seen[checkDo(t, m, plain, fmt.Sprintf("%d %d %s", client, plain.last[client]+1, task))]++
 		}
 	}
+	checkSeen(t, seen, []string{"trade at one price", "trade with a gain of the house"})
 }
