@@ -15,7 +15,7 @@ var someCommands = []string{
 	"0 6 buy 0 45 2", "2 3 close 0", "1 7 close 1", "0 7 buy 0 9 1", "2 4 close 0", "0 8 sell", "0 10 pay 1", "0 1 pay 1",
 }
 
-// TestMarketKeepsNoCommand writes over each command's bytes when it is done: neither what is shown,
+// TestMarketKeepsNoCommand writes over each command's bytes when it is done: neither what is shown or logged,
 // nor the answer to the command when it comes again, may change by that.
 func TestMarketKeepsNoCommand(t *testing.T) {
 	m, plain := market.New(), newPlainMarket()
@@ -32,7 +32,7 @@ func TestMarketKeepsNoCommand(t *testing.T) {
 		if answer != wantAnswer || errno != wantErrno {
 			t.Fatalf("Do(%q) = %q, %d; want %q, %d", command, answer, errno, wantAnswer, wantErrno)
 		}
-		checkShow(t, m, plain.show())
+		checkSame(t, m, plain)
 		if again, errnoAgain := m.Do(command); again != wantAnswer || errnoAgain != wantErrno {
 			t.Fatalf("Do(%q) again = %q, %d; want %q, %d", command, again, errnoAgain, wantAnswer, wantErrno)
 		}
@@ -45,6 +45,7 @@ func TestMarketsShareNothing(t *testing.T) {
 	for _, command := range someCommands {
 		answer, errno := first.Do(command)
 		checkShow(t, second, emptyMarket)
+		checkLog(t, second, "")
 		if got := lasts(second); got != [api.Clients]int{} {
 			t.Fatalf("behind %q on another market, the last requests are %v", command, got)
 		}
@@ -67,6 +68,9 @@ func TestLookingChangesNothing(t *testing.T) {
 			watched.Last(c)
 		}
 		watched.Show()
+		if _, errno := market.Open(watched.Log()); errno != api.OK {
+			t.Fatalf("Open(%q) is %d", watched.Log(), errno)
+		}
 		watched.Do("nothing")
 		answer, errno := watched.Do(command)
 		if want, wantErrno := alone.Do(command); answer != want || errno != wantErrno {
@@ -74,4 +78,5 @@ func TestLookingChangesNothing(t *testing.T) {
 		}
 	}
 	checkShow(t, watched, alone.Show())
+	checkLog(t, watched, alone.Log())
 }

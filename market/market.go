@@ -11,6 +11,7 @@ type Market struct {
 	house    int
 	voyages  [api.Voyages]voyage
 	replies  [api.Clients]reply
+	log      string
 }
 
 // reply is what a client's last request was answered: a repeated request is
@@ -40,6 +41,13 @@ func (m *Market) Do(command string) (string, api.Errno) {
 	if r.number > last.request+1 {
 		return "", api.ErrGap
 	}
+	return m.serve(r, command)
+}
+
+// serve carries out the client's next request, which the command was read as. It is the
+// client's last one from now on, and stands in the log, whatever it is answered.
+func (m *Market) serve(r request, command string) (string, api.Errno) {
+	m.log += frame(command)
 	answer, errno := m.carryOut(r)
 	m.replies[r.client] = reply{request: r.number, answer: answer, errno: errno}
 	return answer, errno
@@ -76,9 +84,3 @@ func (m *Market) Last(client int) int {
 	}
 	return m.replies[client].request
 }
-
-// Log writes what was done (P16).
-func (m *Market) Log() string { return "" }
-
-// Open makes a market out of a log (P17).
-func Open(log string) (*Market, api.Errno) { return nil, api.OK }

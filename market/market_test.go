@@ -28,16 +28,21 @@ func lasts(m *market.Market) [api.Clients]int {
 }
 
 // play does one command behind the other on the market. Whatever the commands are, it wants no answer
-// beside an error, no change by a refused command but that of P9, and none by a repeated one.
+// beside an error, no change by a refused command but that of P9, none by a repeated one, and just those
+// commands in the log that became a last request.
 func play(t *testing.T, m *market.Market, steps []step) {
 	t.Helper()
 	for i, s := range steps {
-		shown, before := m.Show(), lasts(m)
+		shown, before, log := m.Show(), lasts(m), m.Log()
 		answer, errno := m.Do(s.command)
 		if answer != s.answer || errno != s.errno {
 			t.Fatalf("step %d: Do(%q) = %q, %d; want %q, %d", i, s.command, answer, errno, s.answer, s.errno)
 		}
 		checkRequest(t, m, s.command, errno, before)
+		if lasts(m) != before {
+			log += fmt.Sprintf("%02d%s", len(s.command), s.command)
+		}
+		checkLog(t, m, log)
 		if errno != api.OK && m.Show() != shown {
 			t.Fatalf("step %d: Do(%q), refused, made %s of %s", i, s.command, m.Show(), shown)
 		}
@@ -49,6 +54,7 @@ func play(t *testing.T, m *market.Market, steps []step) {
 		if again != answer || errnoAgain != errno || m.Show() != shown {
 			t.Fatalf("step %d: Do(%q) again = %q, %d, and %s; the first time %q, %d, and %s", i, s.command, again, errnoAgain, m.Show(), answer, errno, shown)
 		}
+		checkLog(t, m, log)
 	}
 }
 
@@ -75,6 +81,13 @@ func checkShow(t *testing.T, m *market.Market, want string) {
 	}
 }
 
+func checkLog(t *testing.T, m *market.Market, want string) {
+	t.Helper()
+	if got := m.Log(); got != want {
+		t.Fatalf("Log() = %q; want %q", got, want)
+	}
+}
+
 func TestNewMarketIsEmpty(t *testing.T) {
 	m := market.New()
 	checkShow(t, m, emptyMarket)
@@ -82,6 +95,7 @@ func TestNewMarketIsEmpty(t *testing.T) {
 	if got := lasts(m); got != [api.Clients]int{} {
 		t.Errorf("the last requests of a new market are %v", got)
 	}
+	checkLog(t, m, "")
 }
 
 func TestShowWritesEachPartInItsPlace(t *testing.T) {
@@ -149,14 +163,19 @@ func TestSecondMarketOfTheDocument(t *testing.T) {
 
 func TestThirdMarketOfTheDocument(t *testing.T) {
 	m := market.New()
+	checkLog(t, m, "")
 	play(t, m, []step{
 		{"0 1 pay 100", "", api.OK},
 		{"0 2 draw 200", "", api.ErrFunds},
+	})
+	checkLog(t, m, "110 1 pay 100120 2 draw 200")
+	play(t, m, []step{
 		{"0 2 draw 200", "", api.ErrFunds},
 		{"0 1 pay 1", "", api.ErrOld},
 		{"0 4 pay 1", "", api.ErrGap},
 		{"nothing", "", api.ErrForm},
 	})
+	checkLog(t, m, "110 1 pay 100120 2 draw 200")
 	checkShow(t, m, "100+0 0+0 0+0;"+emptyAccount+";"+emptyAccount+";"+emptyAccount+";0;u;u")
 }
 

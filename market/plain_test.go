@@ -9,7 +9,7 @@ import (
 	"market/market"
 )
 
-// plainMarket is a second reading of P7 to P15. Names of what is held or free are like "0 cash", "1 slots 0".
+// plainMarket is a second reading of P7 to P17. Names of what is held or free are like "0 cash", "1 slots 0".
 type plainMarket struct {
 	free, held map[string]int
 	house      int
@@ -19,6 +19,7 @@ type plainMarket struct {
 	last       map[int]int
 	answer     map[int]string
 	errno      map[int]api.Errno
+	log        string
 }
 
 type plainOrder struct {
@@ -51,6 +52,7 @@ func (p *plainMarket) do(command string) (string, api.Errno) {
 		return "", api.ErrGap
 	}
 	p.last[client] = number
+	p.log += fmt.Sprintf("%02d%s", len(command), command)
 	p.answer[client], p.errno[client] = p.obey(client, word, strings.Fields(command)[3:])
 	return p.answer[client], p.errno[client]
 }
@@ -260,6 +262,18 @@ func someTask(numbers *fixedNumbers, voyage int) string {
 	return fmt.Sprintf("mode %d %c", voyage, "uuummmx"[numbers.next(7)])
 }
 
+// checkSame wants all that can be seen of the market to be as the plain market has it.
+func checkSame(t *testing.T, m *market.Market, plain *plainMarket) {
+	t.Helper()
+	checkShow(t, m, plain.show())
+	checkLog(t, m, plain.log)
+	for c := range api.Clients {
+		if m.Last(c) != plain.last[c] {
+			t.Fatalf("Last(%d) = %d; want %d", c, m.Last(c), plain.last[c])
+		}
+	}
+}
+
 // checkDo wants the command answered as the plain market does, and both markets to be the same behind it. It tells
 // the kind of the answer: how a close traded, or else the error.
 func checkDo(t *testing.T, m *market.Market, plain *plainMarket, command string) string {
@@ -270,12 +284,7 @@ func checkDo(t *testing.T, m *market.Market, plain *plainMarket, command string)
 	if answer != wantAnswer || errno != wantErrno {
 		t.Fatalf("Do(%q) = %q, %d; want %q, %d; the market before: %s", command, answer, errno, wantAnswer, wantErrno, before)
 	}
-	checkShow(t, m, plain.show())
-	for c := range api.Clients {
-		if m.Last(c) != plain.last[c] {
-			t.Fatalf("Do(%q): Last(%d) = %d; want %d", command, c, m.Last(c), plain.last[c])
-		}
-	}
+	checkSame(t, m, plain)
 	var slots, pay, get int
 	if n, _ := fmt.Sscanf(answer, "%d@%d/%d", &slots, &pay, &get); n < 3 {
 		return fmt.Sprint("error ", errno)

@@ -114,10 +114,15 @@ func (f *fields) mode() mode {
 
 // readNumber reads a decimal number from 0 to most, without noughts ahead.
 func readNumber(text string, most int) (int, bool) {
-	if text == "" {
+	if len(text) > 1 && text[0] == '0' {
 		return 0, false
 	}
-	if text[0] == '0' && text != "0" {
+	return readDigits(text, most)
+}
+
+// readDigits reads a decimal number from 0 to most, with noughts ahead or without.
+func readDigits(text string, most int) (int, bool) {
+	if text == "" {
 		return 0, false
 	}
 	n := 0
